@@ -7,18 +7,27 @@ from anycompany.ratio import add, compare, divide, multiply, subtract
 
 def index_order(game, discount):
     """Returns the index order, a tuple of pairs (state, index)."""
+    return tuple([(state, index) for state, index, _ in index_steps(game, discount)])
+
+
+def index_steps(game, discount):
+    """Returns the list of the rows (state, index, table) of the index order.
+
+    The table is the leave table whose inside has the states of the rows before.
+    """
     rewards, _ = game
-    order = []
+    steps = []
     for _ in rewards:
-        order.append(following(game, order, discount))
-    return tuple(order)
+        inside = sorted([state for state, _, _ in steps])
+        table = leave_table(game, tuple(inside), discount)
+        state, index = following(game, inside, table, discount)
+        steps.append((state, index, table))
+    return steps
 
 
-def following(game, order, discount):
-    """Returns the pair (state, index) that comes next in the index order."""
+def following(game, inside, table, discount):
+    """Returns the pair (state, index) that comes next when the states of inside are listed."""
     rewards, _ = game
-    inside = sorted([state for state, _ in order])
-    table = leave_table(game, tuple(inside), discount)
     best = None
     for state in range(len(rewards)):
         if state not in inside:
@@ -42,12 +51,11 @@ def indices(game, discount):
 
 def index_paper(game, state, discount):
     """Returns a right index paper for the state."""
-    order = index_order(game, discount)
-    at = [listed for listed, _ in order].index(state)
-    index = order[at][1]
-    inside = tuple(sorted([listed for listed, _ in order[:at]]))
-    table = stopped(leave_table(game, inside, discount), index)
-    return (index, inside, tuple(table))
+    steps = index_steps(game, discount)
+    order = [listed for listed, _, _ in steps]
+    at = order.index(state)
+    _, index, table = steps[at]
+    return (index, tuple(sorted(order[:at])), tuple(stopped(table, index)))
 
 
 def stopped(table, amount):

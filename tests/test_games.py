@@ -2,35 +2,19 @@ import copy
 import unittest
 from fractions import Fraction
 
-from anycompany import errors
 from anycompany.errors import (
-    AnycompanyError, BadState, BadTarget, BadTotal, InvalidDiscount, NegativeProbability, NoStates, WrongLength,
+    BadState, BadTarget, BadTotal, InvalidDiscount, NegativeProbability, NoStates, WrongLength,
 )
 from anycompany.games import (
     check_discount, make_game, make_place, reachable, steady_reward, steady_worth, trimmed,
 )
-from tests.support import COIN, DISCOUNTS, HAIR, HALF, frac, games, is_frozen, random_game, ratio_of, ring
+from tests.support import COIN, DISCOUNTS, HAIR, HALF, ErrorTest, frac, games, is_frozen, random_game, ratio_of, ring
 
 ONE = (1, 1)
 ZERO = (0, 1)
 
 
-class GamesTest(unittest.TestCase):
-    def check_error(self, kind, call, **attributes):
-        """The call raises this error, with these attributes, and none of the other errors."""
-        with self.assertRaises(kind) as caught:
-            call()
-        raised = caught.exception
-        self.assertIs(type(raised), kind)
-        self.assertIsInstance(raised, AnycompanyError)
-        self.assertIsInstance(raised, ValueError)
-        for other in vars(errors).values():
-            if isinstance(other, type) and other not in (kind, AnycompanyError):
-                self.assertNotIsInstance(raised, other)
-        self.assertEqual({name: getattr(raised, name) for name in attributes}, attributes)
-
-
-class MakeGame(GamesTest):
+class MakeGame(ErrorTest):
     def test_rows_in_lists_and_in_tuples(self):
         rows = [[(0, HALF), (1, HALF)], [(1, ONE)]]
         for kind in (list, tuple):
@@ -79,7 +63,7 @@ class MakeGame(GamesTest):
         self.assertEqual((rewards, moves), before)
 
 
-class MakeGameErrors(GamesTest):
+class MakeGameErrors(ErrorTest):
     def test_no_states(self):
         for rewards, moves in (([], []), ((), ()), ([], [[(0, ONE)]]), ((), ((), ()))):
             self.check_error(NoStates, lambda: make_game(rewards, moves))
@@ -153,7 +137,7 @@ class MakeGameErrors(GamesTest):
         self.assertEqual(make_game([ONE], [[(0, ONE)]]), ((ONE,), (((0, ONE),),)))
 
 
-class MakePlace(GamesTest):
+class MakePlace(ErrorTest):
     def test_each_state(self):
         for game in games():
             for state in range(len(game[0])):
@@ -166,7 +150,7 @@ class MakePlace(GamesTest):
                 self.check_error(BadState, lambda: make_place(game, state), state=state)
 
 
-class Discounts(GamesTest):
+class Discounts(ErrorTest):
     def test_discounts(self):
         for discount in DISCOUNTS + (HAIR,):
             self.assertIsNone(check_discount(discount))

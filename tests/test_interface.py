@@ -19,7 +19,26 @@ INTERFACE = {
     "indices": (
         "index_order(game, discount)", "indices(game, discount)", "index_paper(game, state, discount)",
         "judge_index(game, state, paper, discount)"),
+    "profiles": (
+        "game_curve(place, discount)", "stop_table(game, amount, discount)", "standard_game(curve, discount)"),
+    "companies": (
+        "company_curve(company, discount)", "best_gain(company, discount, *, stop=None)",
+        "best_step(company, discount, *, stop=None)", "moved(company, position, state)",
+        "play_value(company, position, discount, *, stop=None)",
+        "step_cost(company, position, discount, *, stop=None)"),
+    "tables": (
+        "joint_states(games)", "value_table(games, discount, *, stop=None)",
+        "first_misfit(games, table, discount, *, stop=None)"),
 }
+CLASSES = {
+    "curves": {
+        "Curve": (
+            "__init__(self, knots)", "value(self, amount)", "__call__(self, amount)", "slope(self, amount)",
+            "__iter__(self)", "__mul__(self, other)", "__or__(self, other)", "__and__(self, other)",
+            "lack(self, other)", "never_below(self, other)", "fits(self, discount)"),
+    },
+}
+PROPERTIES = {"Curve": ("floor", "top")}
 
 
 class Interface(unittest.TestCase):
@@ -33,6 +52,21 @@ class Interface(unittest.TestCase):
                     self.assertTrue(inspect.isfunction(told))
                     self.assertEqual(told.__module__, module.__name__)
                     self.assertEqual(name + str(inspect.signature(told)), signature)
+
+    def test_methods_and_properties_are_defined_in_the_class_itself(self):
+        for file, classes in CLASSES.items():
+            module = importlib.import_module(f"anycompany.{file}")
+            for name, signatures in classes.items():
+                told = getattr(module, name)
+                self.assertTrue(inspect.isclass(told))
+                self.assertEqual(told.__module__, module.__name__)
+                for signature in signatures:
+                    with self.subTest(name=name, signature=signature):
+                        method = vars(told)[signature.partition("(")[0]]
+                        self.assertTrue(inspect.isfunction(method))
+                        self.assertEqual(method.__name__ + str(inspect.signature(method)), signature)
+                for wanted in PROPERTIES[name]:
+                    self.assertIsInstance(vars(told)[wanted], property)
 
 
 if __name__ == "__main__":

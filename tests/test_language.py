@@ -21,6 +21,9 @@ BARRED = """
     typing enum Enum Generic Protocol namedtuple register mro elements open input law exec eval compile globals
     locals vars dir id help exit quit os gc""".split()
 DECORATORS = ("property", "setter", "staticmethod", "classmethod")
+SPECIAL = set("""
+    __init__ __eq__ __repr__ __str__ __len__ __enter__ __exit__ __call__ __iter__ __lt__ __le__ __gt__ __ge__ __ne__
+    __add__ __sub__ __mul__ __floordiv__ __mod__ __and__ __or__ __xor__ __neg__ __bool__ __contains__""".split())
 TOP = (ast.ImportFrom, ast.FunctionDef, ast.ClassDef, ast.Assign)
 NOT_ALLOWED = (ast.Import, ast.Global, ast.AsyncFunctionDef, ast.Await, ast.Div)
 
@@ -136,6 +139,16 @@ class Language(unittest.TestCase):
                     with self.subTest(f"{path.name}:{node.name}"):
                         self.assertEqual(local_names(node) & (imported | classes | set(dir(builtins))), set())
                         self.assertNotIn(node.name, dir(builtins))
+
+    def test_double_underscore_methods(self):
+        for node, where in self.nodes(ast.FunctionDef):
+            if node.name.startswith("__"):
+                self.assertIn(node.name, SPECIAL, where)
+            if node.name == "__iter__":
+                self.assertEqual(len(node.body), 1, where)
+        for node, where in self.nodes(ast.Attribute):
+            if node.attr.startswith("__"):
+                self.assertEqual(node.attr, "__init__", where)
 
     def test_barred_words(self):
         for path in files():
