@@ -1,4 +1,4 @@
-"""Rows of knots (amount, value), as a curve has them: what can be told of one row or of several."""
+"""Rows of knots (amount, value), as a curve has them: what can be told of one row or of two."""
 
 from anycompany.errors import BadKnot, NoKnots
 from anycompany.ratio import add, compare, divide, largest, multiply, subtract
@@ -171,3 +171,23 @@ def lack_between(first, second):
             loss = gap
             where = amount
     return (loss, where)
+
+
+def excess_of(point):
+    """Returns the value minus the amount."""
+    return subtract(point[1], point[0])
+
+
+def amount_with_excess(knots, excess):
+    """Returns the amount at which a curve has the excess; without any excess it is the last one."""
+    # From left to right the excess of the knots falls, down to zero at the last one.
+    passed = 0
+    while compare(excess_of(knots[passed]), excess) > 0:
+        passed += 1
+    right = knots[passed]
+    if passed == 0:
+        return subtract(right[1], excess)
+    left = knots[passed - 1]
+    low = excess_of(right)
+    part = divide(subtract(excess, low), subtract(excess_of(left), low))
+    return subtract(right[0], multiply(part, subtract(right[0], left[0])))

@@ -26,6 +26,11 @@ def play_by(games, states, position, gains, discount):
     return played(game, state, after, discount)
 
 
+def all_plays(games, states, gains, discount):
+    """Returns the list of what playing gains in the joint state, by position."""
+    return [play_by(games, states, position, gains, discount) for position in range(len(games))]
+
+
 class Outlook:
     """The best gains from the joint states of games on; each is worked out when it is asked first."""
 

@@ -1,6 +1,6 @@
 """Tables with the best gain from each joint state on, and a check of such tables."""
 
-from anycompany.outlook import Outlook, play_by
+from anycompany.outlook import Outlook, all_plays
 from anycompany.ratio import largest
 
 
@@ -22,7 +22,7 @@ def first_misfit(games, table, discount, *, stop=None):
     """Returns the first joint state whose entry is not the greatest candidate, or None if there is none."""
     gains = by_states(games, table)
     for states in joint_states(games):
-        candidates = [play_by(games, states, position, gains, discount) for position in range(len(games))]
+        candidates = all_plays(games, states, gains, discount)
         if stop is not None:
             candidates.append(stop)
         if gains[states] != largest(candidates):

@@ -199,3 +199,16 @@ def gain_of(rows, stop):
             slope *= slope_of(knots, low)
         gain -= slope * (high - low)
     return gain
+
+
+def places():
+    """Places of all kinds: several with the same curve, better ones, worse ones, and ones apart from each other."""
+    half = (((1, 2),), (((0, (1, 1)),),))
+    padded = (COIN[0] + ((9, 1),), COIN[1] + (((2, (1, 1)),),))
+    found = [(COIN, 0), (COIN, 1), (half, 0), (padded, 0), (((((1, 1),), (((0, (1, 1)),),))), 0)]
+    # Throws that pay at once what they are worth, or much later, or with a small chance.
+    for low, high, chance in ((0, 4, 2), (0, 8, 4), (-3, 3, 3), (1, 2, 2)):
+        row = ((1, (1, chance)), (2, (chance - 1, chance)))
+        found.append((((((0, 1), (high, 1), (low, 1))), (row, ((1, (1, 1)),), ((2, (1, 1)),))), 0))
+    found.extend((game, 0) for game in games()[4:10])
+    return found + [(random_game(91, 4), 2), (random_game(92, 3), 1)]

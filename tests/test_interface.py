@@ -29,6 +29,22 @@ INTERFACE = {
     "tables": (
         "joint_states(games)", "value_table(games, discount, *, stop=None)",
         "first_misfit(games, table, discount, *, stop=None)"),
+    "trees": (
+        "check_plan(company, plan, *, stop=None)", "plan_gain(company, plan, discount, *, stop=None)",
+        "plan_costs(company, plan, discount, *, stop=None)", "plan_loss(company, plan, discount, *, stop=None)",
+        "best_plan(company, depth, discount, *, stop=None)"),
+    "stationary": (
+        "choice_values(games, choices, discount)", "improved(games, choices, discount)",
+        "settled(games, choices, discount)", "choice_costs(games, choices, discount)",
+        "choice_losses(games, choices, discount)"),
+    "comparing": (
+        "never_worse(first, second, discount)", "alike(first, second, discount)",
+        "relation(first, second, discount)", "shortlist(places, discount)",
+        "greatest_loss(first, second, discount)", "parting_reward(first, second, discount)",
+        "distance(first, second, discount)", "joined(first, second, discount)", "met(first, second, discount)",
+        "single(company, discount)"),
+    "tolls": (
+        "with_toll(place, toll)", "fair_toll(first, second, discount)", "needless(company, position, discount)"),
 }
 CLASSES = {
     "curves": {
