@@ -212,3 +212,34 @@ def places():
         found.append((((((0, 1), (high, 1), (low, 1))), (row, ((1, (1, 1)),), ((2, (1, 1)),))), 0))
     found.extend((game, 0) for game in games()[4:10])
     return found + [(random_game(91, 4), 2), (random_game(92, 3), 1)]
+
+
+def small_companies():
+    """Companies with at most 8 pairs: one pair, the same place twice, states that are never reached, no chance."""
+    half = (((1, 2),), (((0, (1, 1)),),))
+    told = games()
+    found = [((half, 0),), ((COIN, 0),), ((COIN, 1),), ((COIN, 0), (COIN, 0)), ((half, 0), (COIN, 0), (half, 0))]
+    found.append(((ring(3), 1), (ring(2), 0)))
+    found.append(((ring(3), 0), (ring(3), 0), (COIN, 1)))
+    found.append(((told[5], 0), (COIN, 0), (told[5], 2)))
+    found.append(((random_game(51, 4), 1), (random_game(52, 4), 3)))
+    found.append(((random_game(53, 8), 2),))
+    found.append(((random_game(54, 2), 0),) * 4)
+    found.append(((random_game(55, 5), 4), (random_game(56, 3), 0)))
+    # The last state of the first game is left at once and never comes back.
+    found.append((((((1, 1), (2, 1), (3, 1)), (((1, (1, 1)),), ((0, (1, 3)), (1, (2, 3))), ((0, (1, 1)),))), 2),
+                  (COIN, 0), (half, 0)))
+    return found
+
+
+def pairs_told(company):
+    """All pairs (position, state), told without the program."""
+    return [(position, state) for position, (game, _) in enumerate(company) for state in range(len(game[0]))]
+
+
+def some_orders(company, many):
+    """Some priority orders, the same ones each time: all pairs as they stand, reversed, and shuffled."""
+    pairs = pairs_told(company)
+    rng = random.Random(len(pairs))
+    shuffled = [tuple(rng.sample(pairs, len(pairs))) for _ in range(many)]
+    return [tuple(pairs), tuple(reversed(pairs))] + shuffled

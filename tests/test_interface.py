@@ -45,6 +45,18 @@ INTERFACE = {
         "single(company, discount)"),
     "tolls": (
         "with_toll(place, toll)", "fair_toll(first, second, discount)", "needless(company, position, discount)"),
+    "copies": (
+        "copies_gain(place, count, discount)", "shortage(place, count, discount)",
+        "enough_copies(place, bound, discount)"),
+    "visits": (
+        "pairs_of(company)", "choice_visits(company, choices, discount)", "order_visits(company, order, discount)",
+        "visits_gain(company, visits)"),
+    "region": (
+        "rule(company, chosen, discount)", "broken_set(company, visits, discount)",
+        "mixture(company, visits, discount)"),
+    "trials": (
+        "evidence(hypotheses, successes, failures)", "mean(hypotheses, successes, failures)",
+        "records(hypotheses, rounds)", "trial_game(hypotheses, rounds)"),
 }
 CLASSES = {
     "curves": {
