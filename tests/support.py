@@ -243,3 +243,19 @@ def some_orders(company, many):
     rng = random.Random(len(pairs))
     shuffled = [tuple(rng.sample(pairs, len(pairs))) for _ in range(many)]
     return [tuple(pairs), tuple(reversed(pairs))] + shuffled
+
+
+def books():
+    """Books of all kinds: without games, without places, with the same place several times, with great numbers."""
+    told = games()
+    half = (((1, 2),), (((0, (1, 1)),),))
+    rows = (((0, HAIR), (1, (10 ** 30 - 1, 10 ** 30))), ((0, (1, 1)),))
+    great = (((10 ** 59, 10 ** 60 - 1), (1 - 10 ** 60, 1)), rows)
+    found = [((0, 1), (), ()), (HALF, (("a", COIN),), ()), (HALF, (("half", half),), (("half", 0),))]
+    found.append(((9, 10), (("coin", COIN), ("half", half)), (("half", 0), ("coin", 1), ("coin", 0), ("half", 0))))
+    found.append((HAIR, (("a" * 20, half), ("a" * 19, COIN)), (("a" * 19, 1),) * 3))
+    found.append(((10 ** 30 - 1, 10 ** 30), (("z", great), ("y", ring(12))), (("y", 11), ("z", 1))))
+    names = ["abcdefghijklmnopqrst"[:k + 1] for k in range(len(told))]
+    few = [game for game in told if max(len(str(part)) for reward in game[0] for part in reward) < 60]
+    found.append(((1, 3), tuple(zip(names, few)), tuple((name, len(game[0]) - 1) for name, game in zip(names, few))))
+    return found

@@ -9,7 +9,7 @@ from anycompany.comparing import (
 from anycompany.games import make_game, trimmed
 from anycompany.profiles import game_curve, standard_game
 from tests.support import (
-    COIN, HAIR, HALF, amounts_for, companies, frac, games, is_frozen, is_proper, places, ratio_of, ring, value_of,
+    COIN, HAIR, HALF, amounts_for, companies, frac, games, is_frozen, is_proper, places, ring, value_of,
 )
 
 SOME = ((0, 1), HALF, (9, 10), (10 ** 30 - 1, 10 ** 30))

@@ -6,7 +6,7 @@ from itertools import product
 from anycompany.curves import Curve
 from anycompany.errors import BadKnot, NoKnots
 from tests.support import (
-    DISCOUNTS, HAIR, HALF, ErrorTest, amounts_for, check_knots, frac, is_proper, knot_rows, knots_by, ratio_of,
+    DISCOUNTS, HAIR, ErrorTest, amounts_for, check_knots, frac, is_proper, knot_rows, knots_by, ratio_of,
     slope_of, value_of,
 )
 

@@ -57,6 +57,12 @@ INTERFACE = {
     "trials": (
         "evidence(hypotheses, successes, failures)", "mean(hypotheses, successes, failures)",
         "records(hypotheses, rounds)", "trial_game(hypotheses, rounds)"),
+    "jobs": (
+        "job_game(reward, lengths)", "finishing_chance(lengths, age)", "spell(reward, lengths, age, to, discount)",
+        "job_index(reward, lengths, age, discount)", "order_gain(jobs, order, discount)",
+        "order_by_index(jobs, discount)"),
+    "writing": ("write_ratio(value)", "write_book(book)"),
+    "reading": ("read_ratio(text)", "read_book(text)", "company_of(book)"),
 }
 CLASSES = {
     "curves": {
@@ -65,8 +71,14 @@ CLASSES = {
             "__iter__(self)", "__mul__(self, other)", "__or__(self, other)", "__and__(self, other)",
             "lack(self, other)", "never_below(self, other)", "fits(self, discount)"),
     },
+    "house": {
+        "House": (
+            "__init__(self, discount, *, idle=(0, 1))", "enter(self, game, state)", "leave(self, number)",
+            "play(self, number, target)", "rest(self)", "undo(self)", "perform(self, deeds)", "places(self)",
+            "best_gain(self)", "advice(self)", "ledger(self)"),
+    },
 }
-PROPERTIES = {"Curve": ("floor", "top")}
+PROPERTIES = {"Curve": ("floor", "top"), "House": ("clock",)}
 
 
 class Interface(unittest.TestCase):

@@ -8,7 +8,7 @@ from anycompany.errors import BadPlan
 from anycompany.indices import indices
 from anycompany.trees import best_plan, check_plan, plan_costs, plan_gain, plan_loss
 from tests.support import (
-    COIN, HALF, ErrorTest, companies, frac, is_frozen, is_proper, random_game, ratio_of, ring, stops_for,
+    COIN, HALF, ErrorTest, companies, frac, is_frozen, is_proper, random_game, ring, stops_for,
 )
 
 BEST = ("best",)

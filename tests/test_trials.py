@@ -9,7 +9,7 @@ from anycompany.indices import indices
 from anycompany.leaving import leave_values
 from anycompany.profiles import game_curve
 from anycompany.trials import evidence, mean, records, trial_game
-from tests.support import HAIR, HALF, ErrorTest, frac, is_frozen, is_proper, ratio_of
+from tests.support import HAIR, HALF, ErrorTest, frac, is_frozen, is_proper
 
 ZERO = (0, 1)
 ONE = (1, 1)
