@@ -1,6 +1,15 @@
 """All errors that the program raises."""
 
 
+def written(value):
+    """Returns the text of a value, or other words if Python cannot write it."""
+    # For an integer of some thousand digits Python raises an error, in the place of the one that is due.
+    try:
+        return str(value)
+    except ValueError:
+        return "(too long to be written)"
+
+
 class AnycompanyError(ValueError):
     """The base class of all errors that the program raises."""
 
@@ -45,7 +54,7 @@ class BadTarget(AnycompanyError):
     """The row of a state has a target that is not a state."""
 
     def __init__(self, state):
-        AnycompanyError.__init__(self, f"a target in the row of state {state} is not a state")
+        AnycompanyError.__init__(self, f"a target in the row of state {written(state)} is not a state")
         self.state = state
 
 
@@ -53,7 +62,7 @@ class NegativeProbability(AnycompanyError):
     """The row of a state has a probability that is less than zero."""
 
     def __init__(self, state):
-        AnycompanyError.__init__(self, f"a probability in the row of state {state} is less than zero")
+        AnycompanyError.__init__(self, f"a probability in the row of state {written(state)} is less than zero")
         self.state = state
 
 
@@ -61,7 +70,7 @@ class BadTotal(AnycompanyError):
     """The probabilities in the row of a state do not have the sum one."""
 
     def __init__(self, state):
-        AnycompanyError.__init__(self, f"the probabilities in the row of state {state} do not have the sum one")
+        AnycompanyError.__init__(self, f"the probabilities of state {written(state)} do not have the sum one")
         self.state = state
 
 
@@ -69,7 +78,7 @@ class BadState(AnycompanyError):
     """A number is not a state of the game."""
 
     def __init__(self, state):
-        AnycompanyError.__init__(self, f"{state} is not a state of the game")
+        AnycompanyError.__init__(self, f"{written(state)} is not a state of the game")
         self.state = state
 
 
@@ -77,7 +86,7 @@ class BadKnot(AnycompanyError):
     """The knot at a position is wrong."""
 
     def __init__(self, position):
-        AnycompanyError.__init__(self, f"the knot at position {position} is wrong")
+        AnycompanyError.__init__(self, f"the knot at position {written(position)} is wrong")
         self.position = position
 
 
@@ -85,7 +94,7 @@ class BadDeed(AnycompanyError):
     """The deed at a position of a row of deeds raises an error."""
 
     def __init__(self, position):
-        AnycompanyError.__init__(self, f"the deed at position {position} cannot be done")
+        AnycompanyError.__init__(self, f"the deed at position {written(position)} cannot be done")
         self.position = position
 
 
@@ -93,7 +102,7 @@ class BadPlan(AnycompanyError):
     """The node of a plan to which a path leads is wrong."""
 
     def __init__(self, path):
-        AnycompanyError.__init__(self, f"the node at the path {path} is wrong")
+        AnycompanyError.__init__(self, f"the node at the path {written(path)} is wrong")
         self.path = path
 
 
@@ -101,7 +110,7 @@ class UnknownGame(AnycompanyError):
     """No game with a number is in the house."""
 
     def __init__(self, number):
-        AnycompanyError.__init__(self, f"no game with the number {number} is in the house")
+        AnycompanyError.__init__(self, f"no game with the number {written(number)} is in the house")
         self.number = number
 
 
@@ -109,7 +118,7 @@ class BadLine(AnycompanyError):
     """A line of a text has none of the forms."""
 
     def __init__(self, line):
-        AnycompanyError.__init__(self, f"line {line} has none of the forms")
+        AnycompanyError.__init__(self, f"line {written(line)} has none of the forms")
         self.line = line
 
 
@@ -117,5 +126,5 @@ class BadBook(AnycompanyError):
     """A line of a text breaks a rule of books."""
 
     def __init__(self, line):
-        AnycompanyError.__init__(self, f"line {line} breaks a rule of books")
+        AnycompanyError.__init__(self, f"line {written(line)} breaks a rule of books")
         self.line = line

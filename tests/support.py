@@ -12,6 +12,8 @@ from anycompany.errors import AnycompanyError
 COIN = (((1, 1), (0, 1)), (((0, (1, 2)), (1, (1, 2))), ((1, (1, 1)),)))
 HALF = (1, 2)
 HAIR = (1, 10 ** 30)
+# Python writes the first of these, and refuses to write the others.
+GREAT_NUMBERS = (10 ** 4299, 10 ** 4300, 10 ** 5000, 10 ** 20000 + 7, -10 ** 4300, -10 ** 5000)
 DISCOUNTS = ((0, 1), (1, 3), HALF, (9, 10), (10 ** 30 - 1, 10 ** 30))
 
 

@@ -2,6 +2,7 @@ import unittest
 
 from anycompany import errors
 from anycompany.errors import AnycompanyError
+from tests.support import GREAT_NUMBERS
 
 PLAIN = ("ZeroDenominator", "NoStates", "WrongLength", "NoKnots", "SteepCurve", "ImpossibleRecord",
          "InvalidDiscount", "ImpossibleOutcome", "NothingToUndo")
@@ -38,8 +39,8 @@ class BaseClasses(unittest.TestCase):
 class Objects(unittest.TestCase):
     def test_attribute_is_set_when_the_object_is_created(self):
         for name, attribute in WITH_ATTRIBUTE.items():
-            for value in (0, -1, 10 ** 40, (), (0, 2)):
-                with self.subTest(name, value=value):
+            for value in (0, -1, 10 ** 40, (), (0, 2)) + GREAT_NUMBERS + (GREAT_NUMBERS,):
+                with self.subTest(name):
                     self.assertEqual(vars(getattr(errors, name)(value)), {attribute: value})
 
     def test_attribute_belongs_to_one_object(self):
@@ -57,8 +58,15 @@ class Objects(unittest.TestCase):
 
     def test_errors_can_be_shown(self):
         for name in WITH_ATTRIBUTE:
-            with self.subTest(name):
-                self.assertNotEqual(str(getattr(errors, name)((1, 2))), "")
+            for value in ((1, 2), 37, -37) + GREAT_NUMBERS + (GREAT_NUMBERS,):
+                with self.subTest(name):
+                    self.assertNotEqual(str(getattr(errors, name)(value)), "")
+
+    def test_errors_tell_a_number_that_is_not_great(self):
+        for name in WITH_ATTRIBUTE:
+            for value in (0, 37, -37, 10 ** 40):
+                with self.subTest(name, value=value):
+                    self.assertIn(str(value), str(getattr(errors, name)(value)))
 
 
 if __name__ == "__main__":

@@ -8,7 +8,9 @@ from anycompany.errors import (
 from anycompany.games import (
     check_discount, make_game, make_place, reachable, steady_reward, steady_worth, trimmed,
 )
-from tests.support import COIN, DISCOUNTS, HAIR, HALF, ErrorTest, frac, games, is_frozen, random_game, ratio_of, ring
+from tests.support import (
+    COIN, DISCOUNTS, GREAT_NUMBERS, HAIR, HALF, ErrorTest, frac, games, is_frozen, random_game, ratio_of, ring,
+)
 
 ONE = (1, 1)
 ZERO = (0, 1)
@@ -74,7 +76,7 @@ class MakeGameErrors(ErrorTest):
             self.check_error(WrongLength, lambda: make_game(rewards, moves))
 
     def test_bad_target(self):
-        for target in (-1, -2, -3, 2, 3, 10 ** 30, -10 ** 30):
+        for target in (-1, -2, -3, 2, 3, 10 ** 30, -10 ** 30) + GREAT_NUMBERS:
             for state in (0, 1):
                 rows = [[(0, ONE)], [(1, ONE)]]
                 rows[state] = [(0, HALF), (target, HALF)]
@@ -146,7 +148,7 @@ class MakePlace(ErrorTest):
     def test_bad_state(self):
         for game in games():
             size = len(game[0])
-            for state in (-1, -size, -size - 1, size, size + 1, 10 ** 30, -10 ** 30):
+            for state in (-1, -size, -size - 1, size, size + 1, 10 ** 30, -10 ** 30) + GREAT_NUMBERS:
                 self.check_error(BadState, lambda: make_place(game, state), state=state)
 
 

@@ -12,7 +12,8 @@ from anycompany.house import House
 from anycompany.indices import indices
 from anycompany.tables import joint_states, value_table
 from tests.support import (
-    COIN, DISCOUNTS, HAIR, HALF, ErrorTest, frac, games, is_frozen, is_proper, random_game, ratio_of, ring,
+    COIN, DISCOUNTS, GREAT_NUMBERS, HAIR, HALF, ErrorTest, frac, games, is_frozen, is_proper, random_game, ratio_of,
+    ring,
 )
 
 ZERO = (0, 1)
@@ -156,7 +157,7 @@ class Deeds(ErrorTest):
 
     def test_wrong_states(self):
         for game in KINDS:
-            for state in (-1, -2, len(game[0]), len(game[0]) + 1, 10 ** 40):
+            for state in (-1, -2, len(game[0]), len(game[0]) + 1, 10 ** 40) + GREAT_NUMBERS:
                 house = House(HALF)
                 self.check_refused(house, BadState, lambda told=house: told.enter(game, state), state=state)
 
@@ -168,15 +169,15 @@ class Deeds(ErrorTest):
 
     def test_unknown_games(self):
         house = House(HALF, idle=(1, 3))
-        for number in (-1, 0, 1, 2, 10 ** 40):
+        for number in (-1, 0, 1, 2, 10 ** 40) + GREAT_NUMBERS:
             self.check_refused(house, UnknownGame, lambda: house.leave(number), number=number)
             self.check_refused(house, UnknownGame, lambda: house.play(number, 0), number=number)
         house.enter(COIN, 0)
         house.enter(COIN, 0)
         house.leave(1)
-        for number in (0, 1, 3):
+        for number in (0, 1, 3) + GREAT_NUMBERS:
             self.check_refused(house, UnknownGame, lambda: house.leave(number), number=number)
-            for target in (0, 1, 2, -1, 10 ** 40):
+            for target in (0, 1, 2, -1, 10 ** 40, 10 ** 5000):
                 self.check_refused(house, UnknownGame, lambda: house.play(number, target), number=number)
         self.assertEqual(house.enter(COIN, 0), 3)
 
@@ -184,7 +185,8 @@ class Deeds(ErrorTest):
         house = House(HALF)
         house.enter(ring(3), 1)
         house.enter(COIN, 1)
-        for number, target in ((1, 0), (1, 1), (1, 3), (1, -1), (1, 10 ** 40), (2, 0), (2, 2), (2, -1)):
+        for number, target in ((1, 0), (1, 1), (1, 3), (1, -1), (1, 10 ** 40), (2, 0), (2, 2), (2, -1),
+                               (1, 10 ** 5000), (2, -10 ** 5000)):
             self.check_refused(house, ImpossibleOutcome, lambda: house.play(number, target))
         self.assertEqual([house.play(1, 2), house.play(2, 1)], [ONE, ZERO])
 
@@ -372,6 +374,8 @@ class Ledger(ErrorTest):
 
 class Perform(ErrorTest):
     ROW = [("enter", COIN, 0), ("play", 1, 0), ("rest",), ("enter", FLAT, 0), ("play", 2, 0), ("leave", 1)]
+    GREAT_DEEDS = tuple(deed for great in (10 ** 5000, -10 ** 5000) for deed in (
+        ("enter", COIN, great), ("leave", great), ("play", great, 0), ("play", 2, great)))
 
     def test_results(self):
         for row in (self.ROW, tuple(self.ROW)):
@@ -405,7 +409,7 @@ class Perform(ErrorTest):
 
     def test_bad_deeds(self):
         for bad in (("enter", COIN, 2), ("enter", COIN, -1), ("leave", 7), ("leave", 0), ("play", 7, 0),
-                    ("play", 0, 0), ("play", 2, 1)):
+                    ("play", 0, 0), ("play", 2, 1)) + self.GREAT_DEEDS:
             for at in (4, 5):
                 for many in (0, 2):
                     house = House(HALF, idle=(1, 3))

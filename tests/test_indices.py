@@ -178,7 +178,8 @@ class JudgeIndex(unittest.TestCase):
         index, inside, table = index_paper(game, 0, HALF)
         self.assertEqual(inside, (1, 2, 3))
         for wrong in ((3, 2, 1), (2, 1, 3), (1, 3, 2), (1, 1, 2, 3), (1, 2, 3, 3), (1, 2, 3, 4), (-1, 1, 2, 3),
-                      (-3, -2, -1), (1, 2, 3, 10 ** 30), (-10 ** 30, 1, 2, 3), (1, 2, 3) * 50):
+                      (-3, -2, -1), (1, 2, 3, 10 ** 30), (-10 ** 30, 1, 2, 3), (1, 2, 3) * 50,
+                      (1, 2, 3, 10 ** 5000), (-10 ** 5000, 1, 2, 3)):
             self.check_false(game, 0, (index, wrong, table))
 
     def test_paper_of_another_state_only(self):

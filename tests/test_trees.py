@@ -116,7 +116,7 @@ class CheckPlan(ErrorTest):
 
     def test_positions(self):
         company = ((COIN, 0), (COIN, 1))
-        for position in (-1, -2, -3, 2, 3, 10 ** 30, -10 ** 30):
+        for position in (-1, -2, -3, 2, 3, 10 ** 30, -10 ** 30, 10 ** 5000, -10 ** 5000):
             for plans in ((), (BEST,), (BEST, BEST)):
                 self.check_bad(company, ("play", position, plans), None, ())
                 self.check_bad(company, ("play", 0, (BEST, ("play", position, plans))), (1, 1), (1,))
